@@ -6,6 +6,11 @@ def is_whole(thing):
     return isinstance(thing, int) and not isinstance(thing, bool)
 
 
+def is_between(thing, least, most):
+    """Whether a value is an integer within these bounds."""
+    return is_whole(thing) and least <= thing <= most
+
+
 class Span:
     """A number of ticks, also below zero."""
 
