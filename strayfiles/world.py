@@ -228,7 +228,7 @@ class World:
         """The state that a content shows."""
         runs = [self._runs[number] for number in self.running(content)]
         standings = self.rows.standings(content)
-        at_row = {run.row: self._stage(run) for run in runs if run.row in standings}
+        at_row = {run.row: self._stage(run) for run in runs}
         posts = [(standings[row],) + at_row.get(row, ("", 0, 0)) for row in standings]
         alone = [self._stage(run) for run in runs if self._is_alone(run.name)]
         crowd = []
@@ -281,7 +281,7 @@ class World:
                 raise BadEvent(at)
 
     def _twin(self, content):
-        """Another world in which all is the same for one content."""
+        """Another world in which one content shows the same, and runs get the same numbers."""
         twin = World(self.book, clock=self._clock)
         if content in self.files:
             twin.files[content] = self.files[content]
@@ -291,7 +291,6 @@ class World:
         twin._marks = dict(self._marks)
         twin._copies = dict(self._copies)
         twin._begun = self._begun
-        twin._now = self._now
         for number in self.running(content):
             name, _, row, index, elapsed = self.stands(number)
             twin._runs[number] = Run(name, content, row, index, elapsed)
