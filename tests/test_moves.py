@@ -229,7 +229,8 @@ class TestMoved(MovesTestCase):
         state = state_of(book, rows=[OPEN, DONE])
         self.assert_moved(book, state, ("begin", "open", "a", "some"), {"rows": [OPEN, DONE, ("open", "a", 0, 0)]})
         self.assert_moved(book, state, ("begin", "open", "a", "all"), {"rows": [DONE, ("open", "a", 0, 0)]})
-        self.assert_moved(own, state_of(own, rows=[OPEN]), ("begin", "open", "a", "all"), {"rows": [("open", "a", 0, 0)]})
+        state = state_of(own, rows=[OPEN])
+        self.assert_moved(own, state, ("begin", "open", "a", "all"), {"rows": [("open", "a", 0, 0)]})
         self.assert_moved(own, state_of(own), ("begin", "none", "b", "all"), {"rows": [("none", "b", 0, 0)]})
 
     def test_steps(self):
@@ -268,8 +269,8 @@ class TestMoved(MovesTestCase):
         self.assert_moved(book, state_of(book, rows=[post]), ("step",) + post + ("", "all"), {"age": 0, "rows": []})
 
     def test_free(self):
-        book = Book(Hand("a", "row", "put", "done", begins="open", span=2), Sweep("b", "touch if old", "strike if young"),
-                    age=1, off=1)
+        book = Book(Hand("a", "row", "put", "done", begins="open", span=2),
+                    Sweep("b", "touch if old", "strike if young"), age=1, off=1)
         state = state_of(book, age=1, crowd=[("a", 0, 1), ("a", 1, 2)])
         self.assert_moved(book, state, ("free", "a", 0), {"rows": [("open", "a", 1, 1)]})
         crowd = list(state[4])
@@ -296,11 +297,12 @@ class TestBadMove(MovesTestCase):
         self.assertIs(seen.exception.move, move)
 
     def test_any_values(self):
-        for value in any_values() + [["tick"], "tick", (("tick",),), ("tick", ""), ("tick", None), ("Tick",), ("tack",)]:
+        for value in any_values() + [["tick"], "tick", (("tick",),), ("tick", ""), ("tick", None), ("Tick",)]:
             self.assert_bad(move=value, **FIRST)
 
     def test_parts_of_other_kinds(self):
-        book = Book(Hand("a", "mark", "put if old", begins="open", span=1), Sweep("b", "mark", alone=True), age=1, off=1)
+        book = Book(Hand("a", "mark", "put if old", begins="open", span=1), Sweep("b", "mark", alone=True),
+                    age=1, off=1)
         state = state_of(book, age=1, rows=[OPEN, ("open", "a", 1, 1), ("open", "a", 1, 0), ("open", "a", 0, 0)],
                          crowd=[("a", 1, 0)])
         moves = list(moves_of(book, state))

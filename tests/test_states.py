@@ -16,8 +16,8 @@ from tests.samples import OWN, STORE, any_values, random_book
 
 # All kinds of handlers, with spans and without.
 WIDE = Book(Hand("store", "row", "put", "done", span=2), Hand("late", "put if old", "drop", begins="open"),
-            Sweep("broom", "strike if old", "clear", alone=True, span=1), Sweep("mop", "mark", "unmark if ripe", span=3),
-            Reader("eye", "touch", "read", span=0), Hand("wipe", "drop", "strike", begins="done", span=0),
+            Sweep("broom", "strike if old", "clear", alone=True, span=1),
+            Sweep("mop", "mark", "unmark if ripe", span=3), Reader("eye", "touch", "read", span=0), Hand("wipe", "drop", "strike", begins="done", span=0),
             age=2, off=1, keep=2)
 OPEN, DONE = ("open", "", 0, 0), ("done", "", 0, 0)
 
@@ -47,9 +47,8 @@ def random_state(seed, book):
     free = reference.crowd_kinds(book)
     crowd = [random_stage(chance, book, free) for _ in range(chance.choice([0, 1, 2, 3, 8]) if free else 0)]
     alone = random_stage(chance, book, lone) if lone and chance.random() < 0.5 else ()
-    top = book.age + book.off
-    return (chance.randint(-1, top), chance.randint(-1, top), chance.randint(-1, -1 if book.keep is None else book.keep),
-            alone, chance.choice([list, tuple])(crowd), random_posts(chance, book))
+    age, mark = [chance.randint(-1, book.age + book.off) for _ in range(2)]
+    return (age, mark, chance.randint(-1, -1 if book.keep is None else book.keep), alone, chance.choice([list, tuple])(crowd), random_posts(chance, book))
 
 
 class TestFirstState(unittest.TestCase):
@@ -59,8 +58,8 @@ class TestFirstState(unittest.TestCase):
         self.assertEqual(first_state(WIDE), (-1, -1, -1, (), (("mop", 0, 0), ("store", 0, 0)), ()))
 
     def test_no_crowd(self):
-        for book in (Book(Hand("a", "put"), names="own"), Book(Reader("a", "read")), Book(Sweep("a", "clear", alone=True)),
-                     Book(Hand("a", "touch", begins="open"), Hand("b", "touch", begins="done"))):
+        for book in (Book(Hand("a", "put"), names="own"), Book(Reader("a", "read")),
+                     Book(Sweep("a", "clear", alone=True)), Book(Hand("a", "touch", begins="open"), Hand("b", "touch", begins="done"))):
             self.assertEqual(first_state(book), (-1, -1, -1, (), (), ()))
 
     def test_random_books(self):
@@ -81,8 +80,8 @@ class TestSettled(unittest.TestCase):
         handlers = [Hand("hand", "put"), Hand("late", "put", begins="open"), Hand("wipe", "drop", begins="done"),
                     Sweep("broom", "strike"), Sweep("lone", "strike", alone=True), Reader("eye", "read")]
         shared, own = Book(*handlers), Book(*handlers, names="own")
-        for rows, readers in (((), []), ((OPEN,), []), ((DONE,), [("eye", 0)]), ((("done", "hand", 0, 0),), [("eye", 0)]),
-                              ((("open", "late", 0, 0),), [])):
+        for rows, readers in (((), []), ((OPEN,), []), ((DONE,), [("eye", 0)]),
+                              ((("done", "hand", 0, 0),), [("eye", 0)]), ((("open", "late", 0, 0),), [])):
             self.assertEqual(self.crowd(shared, rows=rows, age=0), [("broom", 0)] + readers + [("hand", 0)])
             self.assertEqual(self.crowd(own, rows=rows, age=0), [("broom", 0)] + readers)
         self.assertEqual(self.crowd(own, rows=(("none", "hand", 0, 0),)), [("broom", 0)])
@@ -146,7 +145,8 @@ class TestSettled(unittest.TestCase):
                 self.assertEqual(crowd, [("x", 0), ("x", 1)] if age in ages else [("x", 0)])
 
     def test_elapsed_goes_along(self):
-        book = Book(Hand("x", "touch", "touch", "row", "touch", begins="open", span=3), Sweep("s", "strike", "mark", span=2))
+        book = Book(Hand("x", "touch", "touch", "row", "touch", begins="open", span=3),
+                    Sweep("s", "strike", "mark", span=2))
         state = (-1, -1, -1, (), [("x", 1, 2), ("x", 0, 3), ("s", 1, 1)], ())
         self.assertEqual(settled(book, state)[4], (("s", 0, 0), ("s", 1, 0), ("x", 0, 3), ("x", 1, 2), ("x", 2, 2)))
         state = (-1, -1, -1, (), [("x", 1, 2), ("x", 0, 1), ("x", 2, 0), ("x", 3, 1), ("x", 3, 2)], ())
@@ -158,7 +158,8 @@ class TestSettled(unittest.TestCase):
             book = random_book(seed)
             age, mark, copy, alone, crowd, rows = random_state(seed, book)
             doubled = list(crowd) + list(crowd)[::-1]
-            results = [settled(book, (age, mark, copy, alone, one, rows)) for one in (list(crowd), tuple(crowd), doubled)]
+            results = [settled(book, (age, mark, copy, alone, one, rows))
+                       for one in (list(crowd), tuple(crowd), doubled)]
             self.assertEqual(results[0], results[1])
             self.assertEqual(results[0], results[2])
             self.assertEqual([type(part) for part in results[0]], [int, int, int, tuple, tuple, tuple])
@@ -204,7 +205,7 @@ class TestIsState(unittest.TestCase):
                 if (at < 3 and type(value) is int and -1 <= value <= 2) or (at in (3, 5) and value == ()):
                     continue
                 self.assert_no_states([self.with_part(at, value)])
-        self.assert_no_states([self.with_part(4, ()), self.with_part(4, []), self.with_part(3, []), self.with_part(5, [])])
+        self.assert_no_states([self.with_part(at, []) for at in (3, 4, 5)] + [self.with_part(4, ())])
 
     def test_ages(self):
         for at in (0, 1):
@@ -270,12 +271,13 @@ class TestIsState(unittest.TestCase):
             self.assert_no_states([state[:4] + (tuple(sorted(state[4] + (stage,))), ())], book)
 
     def test_rows(self):
-        for rows in ((), (OPEN,), (DONE, OPEN), (("done", "late", 1, 0), ("done", "store", 0, 1), ("done", "store", 0, 2)),
+        for rows in ((), (OPEN,), (DONE, OPEN),
+                     (("done", "late", 1, 0), ("done", "store", 0, 1), ("done", "store", 0, 2)),
                      (OPEN, ("open", "store", 0, 0), ("open", "wipe", 1, 0))):
             self.assertIs(is_state(WIDE, settled(WIDE, self.with_part(5, rows))), True, rows)
         good = ("open", "store", 2, 2)
-        for wrong in ([good], (good, good), (OPEN, DONE), (good, OPEN), (list(good),), (good[:3],), (good + (0,),), ((),),
-                      ("open",), (None,), good, (("open", "store", 2, 3),), (("open", "store", 2, -1),),
+        for wrong in ([good], (good, good), (OPEN, DONE), (good, OPEN), (list(good),), (good[:3],), (good + (0,),),
+                      ((),), ("open",), (None,), good, (("open", "store", 2, 3),), (("open", "store", 2, -1),),
                       (("open", "store", 3, 0),), (("open", "store", -1, 0),), (("open", "late", 0, 1),),
                       (("open", "mop", 0, 0),), (("open", "eye", 0, 0),), (("open", "broom", 0, 0),),
                       (("open", "x", 0, 0),), (("open", "", 1, 0),), (("open", "", 0, 1),), (("open", "", 0, False),),
@@ -292,8 +294,8 @@ class TestIsState(unittest.TestCase):
     def test_rows_with_own_names(self):
         book = Book.read(OWN)
         state = first_state(book)
-        for post in (OPEN, ("open", "make", 1, 1), ("open", "wipe", 0, 0), ("none", "make", 2, 0), ("none", "wipe", 1, 0),
-                     DONE, ("done", "make", 0, 0)):
+        for post in (OPEN, ("open", "make", 1, 1), ("open", "wipe", 0, 0), ("none", "make", 2, 0),
+                     ("none", "wipe", 1, 0), DONE, ("done", "make", 0, 0)):
             self.assertIs(is_state(book, settled(book, state[:5] + ((post,),))), True, post)
             self.assert_no_states([settled(book, state[:5] + (tuple(sorted([post, other])),))
                                    for other in (OPEN, DONE, ("none", "make", 0, 0)) if other != post], book)

@@ -376,8 +376,8 @@ class TestReadings(WorldTestCase):
 
     def test_readings_that_do_not_matter(self):
         for text, situation in (("stop if old", dict(mark=0)), ("put if young", dict()), ("stop if ripe", dict(file=0)),
-                                ("done if unripe", dict(file=1)), ("stop if file", dict(file=0, mark=0)), ("put", dict()),
-                                ("mark if marked", dict(mark=0)), ("touch", dict(file=3))):
+                                ("done if unripe", dict(file=1)), ("stop if file", dict(file=0, mark=0)),
+                                ("put", dict()), ("mark if marked", dict(mark=0)), ("touch", dict(file=3))):
             expected = tested_run(text, **situation, age=1)
             expected[0].step(expected[1])
             for reading in any_values() + ["old", "young", "x"]:
