@@ -122,8 +122,9 @@ class TestHappen(EventsTestCase):
 class TestBadEvents(EventsTestCase):
     def test_any_values(self):
         for value in any_values() + ["tick", ["copy"], ("tick", 0), ("copy", ()), ("Tick",), ("ticks",), ("tock",),
-                                     (0,), ("fall",), ("step",), ("begin",), ("step", 0), ("begin", "a"), ("fall", 0, 0),
-                                     ("step", 0, "", ""), ("begin", "a", 0, 0), ("tick", "", ""), ("quit",), ("", 0)]:
+                                     (0,), ("fall",), ("step",), ("begin",), ("step", 0), ("begin", "a"),
+                                     ("fall", 0, 0), ("step", 0, "", ""), ("begin", "a", 0, 0), ("tick", "", ""),
+                                     ("quit",), ("", 0)]:
             self.assert_bad(0, [value])
             self.assert_bad(1, (("tick",), value, ("tick",)))
 

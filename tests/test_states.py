@@ -17,7 +17,8 @@ from tests.samples import OWN, STORE, any_values, random_book
 # All kinds of handlers, with spans and without.
 WIDE = Book(Hand("store", "row", "put", "done", span=2), Hand("late", "put if old", "drop", begins="open"),
             Sweep("broom", "strike if old", "clear", alone=True, span=1),
-            Sweep("mop", "mark", "unmark if ripe", span=3), Reader("eye", "touch", "read", span=0), Hand("wipe", "drop", "strike", begins="done", span=0),
+            Sweep("mop", "mark", "unmark if ripe", span=3), Reader("eye", "touch", "read", span=0),
+            Hand("wipe", "drop", "strike", begins="done", span=0),
             age=2, off=1, keep=2)
 OPEN, DONE = ("open", "", 0, 0), ("done", "", 0, 0)
 
@@ -48,7 +49,8 @@ def random_state(seed, book):
     crowd = [random_stage(chance, book, free) for _ in range(chance.choice([0, 1, 2, 3, 8]) if free else 0)]
     alone = random_stage(chance, book, lone) if lone and chance.random() < 0.5 else ()
     age, mark = [chance.randint(-1, book.age + book.off) for _ in range(2)]
-    return (age, mark, chance.randint(-1, -1 if book.keep is None else book.keep), alone, chance.choice([list, tuple])(crowd), random_posts(chance, book))
+    copy = chance.randint(-1, -1 if book.keep is None else book.keep)
+    return age, mark, copy, alone, chance.choice([list, tuple])(crowd), random_posts(chance, book)
 
 
 class TestFirstState(unittest.TestCase):
@@ -59,7 +61,8 @@ class TestFirstState(unittest.TestCase):
 
     def test_no_crowd(self):
         for book in (Book(Hand("a", "put"), names="own"), Book(Reader("a", "read")),
-                     Book(Sweep("a", "clear", alone=True)), Book(Hand("a", "touch", begins="open"), Hand("b", "touch", begins="done"))):
+                     Book(Sweep("a", "clear", alone=True)),
+                     Book(Hand("a", "touch", begins="open"), Hand("b", "touch", begins="done"))):
             self.assertEqual(first_state(book), (-1, -1, -1, (), (), ()))
 
     def test_random_books(self):
