@@ -43,6 +43,12 @@ def right_reading(book, age):
     return "old" if age >= book.age else "young"
 
 
+def rightly(book, statement, sight):
+    """The right reading with which a statement is carried out; the empty one if none matters."""
+    age = age_to_read(statement, sight)
+    return right_reading(book, age) if age >= 0 else ""
+
+
 def readings_of(book, statement, sight):
     """The readings with which a statement may be carried out, ascending; the empty one if none matters."""
     age = age_to_read(statement, sight)

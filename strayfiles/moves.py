@@ -280,17 +280,59 @@ def walked(book, moves):
     return states
 
 
+def steps_from(book, state):
+    """The moves of a state, ascending, each with the state that it makes."""
+    return [(move, made(book, state, move)) for move in all_moves(book, state)]
+
+
+class Search:
+    """The states that moves reach, found one level after another; the next level is one move further off."""
+
+    def __init__(self, book):
+        first = first_state(book)
+        self.book = book
+        self.level = [first]
+        # For each state that was found the one before it and the move; () for the first state.
+        self.came = {first: ()}
+        # The steps from each state before this level.
+        self.steps = {}
+
+    def go(self):
+        """The next level is found; it is empty if there are no more states."""
+        found = []
+        for state in self.level:
+            self.steps[state] = steps_from(self.book, state)
+            for move, new in self.steps[state]:
+                if new not in self.came:
+                    self.came[new] = (state, move)
+                    found.append(new)
+        self.level = found
+
+    def states(self):
+        """The states that were found, ascending."""
+        return ascending(list(self.came))
+
+
+def moves_to(came, state):
+    """The moves by which a state was first come to."""
+    moves = []
+    while came[state] != ():
+        state, move = came[state]
+        moves.append(move)
+    return moves[::-1]
+
+
+def explored(book, most):
+    """A search that has found all states that moves reach."""
+    search = Search(book)
+    while search.level:
+        if len(search.came) > most:
+            raise TooMany("states")
+        search.go()
+    return search
+
+
 def reached(book, *, most=100):
     """All states that moves reach, ascending."""
-    found = {first_state(book): True}
-    waiting = list(found)
-    while waiting:
-        state = waiting.pop()
-        for move in all_moves(book, state):
-            new = made(book, state, move)
-            if new not in found:
-                found[new] = True
-                waiting.append(new)
-        if len(found) > most:
-            raise TooMany("states")
-    return ascending(list(found))
+    search = explored(book, most)
+    return search.states()

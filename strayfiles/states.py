@@ -53,16 +53,16 @@ def newcomers(book, sight):
     return [(name, 0, 0) for name in names]
 
 
-def idle_ways(book, state, sight, stage):
-    """The stages to which runs come from a stage by a statement that does nothing."""
+def idle_steps(book, state, sight, stage):
+    """The steps from a stage that do nothing: pairs of the reading and the stage to which they lead."""
     name, index, elapsed = stage
     handler = book[name]
-    stages = []
+    steps = []
     for reading in readings_of(book, handler.statements[index], sight):
         at, after = deed(handler, index, state, sight, reading)
         if at < len(handler) and does_nothing(after, state, sight):
-            stages.append((name, at, elapsed))
-    return stages
+            steps.append((reading, (name, at, elapsed)))
+    return steps
 
 
 def settled(book, state):
@@ -75,7 +75,8 @@ def settled(book, state):
         name, index, elapsed = waiting.pop()
         if elapsed < least.get((name, index), elapsed + 1):
             least[name, index] = elapsed
-            waiting.extend(idle_ways(book, state, sight, (name, index, elapsed)))
+            steps = idle_steps(book, state, sight, (name, index, elapsed))
+            waiting.extend([stage for _, stage in steps])
     stages = [(name, index, least[name, index]) for name, index in least]
     return age, mark, copy, alone, tuple(ascending(stages)), rows
 

@@ -122,7 +122,7 @@ class World:
         handler = self.book[going.name]
         index = going.index
         statement = handler.statements[index]
-        sight = self._sight(going)
+        sight = self.sight(run)
         at, acts = carried_out(handler, index, sight, self._made_reading(statement, sight, reading))
         if acts:
             self._act(going, statement.word, sight)
@@ -131,12 +131,13 @@ class World:
             del self._runs[run]
         return index
 
-    def _sight(self, run):
-        """What a run sees of its content."""
-        mark = self._marks.get(run.content, -1)
-        rows = len(self.rows.standings(run.content)) > 0
-        named = self.rows.is_named(run.content)
-        return Sight(self._age(run.content), mark, rows, named, self._standing(run.content, run.row))
+    def sight(self, run):
+        """What a run that is not over sees of its content."""
+        going = self._going(run)
+        mark = self._marks.get(going.content, -1)
+        rows = len(self.rows.standings(going.content)) > 0
+        named = self.rows.is_named(going.content)
+        return Sight(self._age(going.content), mark, rows, named, self._standing(going.content, going.row))
 
     def _made_reading(self, statement, sight, reading):
         """The reading that is made; the empty one where none matters."""
