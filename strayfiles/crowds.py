@@ -72,6 +72,9 @@ class Weaver:
 
     def follow(self, move, new):
         """A move is made, which leads to this state."""
+        if new == self.state and move[0] not in WHOLE:
+            # Nobody more is needed, and nobody needs to move.
+            return
         slot = self._slot()
         if move[0] in WHOLE:
             self.whole.append((slot, move))

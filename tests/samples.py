@@ -89,3 +89,31 @@ def random_book(seed):
             handlers.append(Reader(name, *texts, span=span))
     return Book(*handlers, names=chance.choice(["shared", "own"]), age=chance.choice([0, 1, 2, 3]),
                 off=chance.choice([0, 0, 1, 2]), keep=chance.choice([None, None, 0, 1, 2, 3]))
+
+
+HANDS = {
+    "none": [("put", "done"), ("done", "put"), ("row", "put", "done"), ("skip if file", "put", "done"), ("put",),
+             ("put", "row if unmarked"), ("put if nofile", "mark", "done if marked"), ("row", "done if ripe", "put")],
+    "open": [("put if old", "done"), ("drop",), ("done",), ("touch", "stop if nofile", "done"), ("unmark", "drop")],
+    "done": [("drop", "strike"), ("drop",), ("stop if file", "put"), ("touch if old", "drop", "strike if old")],
+}
+SWEEPS = [("stop if named", "strike if old"), ("strike if old",), ("stop if rows", "strike"), ("clear",),
+          ("mark if unnamed", "unmark if named", "stop if unripe", "strike if old"), ("clear", "strike"),
+          ("stop if marked", "mark", "clear"), ("skip if nofile", "again if young", "unmark"), ("touch if old",)]
+READERS = [("read",), ("stop if nofile", "read"), ("touch", "read"), ("again if nofile", "read")]
+
+
+def likely_book(seed):
+    """A small book of handlers as there are in programs, for each seed the same one."""
+    chance = random.Random(seed)
+    spans = [None, None, 0, 1, 2]
+    handlers = [Hand("store", *chance.choice(HANDS["none"]), span=chance.choice(spans))]
+    if chance.random() < 0.5:
+        begins = chance.choice(sorted(HANDS))
+        handlers.append(Hand("wipe", *chance.choice(HANDS[begins]), begins=begins, span=chance.choice(spans)))
+    for name in chance.choice([[], ["broom"], ["broom"], ["broom", "alp"]]):
+        handlers.append(Sweep(name, *chance.choice(SWEEPS), alone=chance.random() < 0.5, span=chance.choice(spans)))
+    if chance.random() < 0.3:
+        handlers.append(Reader("eye", *chance.choice(READERS), span=chance.choice(spans)))
+    return Book(*handlers, names=chance.choice(["shared", "shared", "own"]), age=chance.choice([0, 1, 2]),
+                off=chance.choice([0, 0, 0, 1]), keep=chance.choice([None, None, None, 1]))
