@@ -9,6 +9,7 @@ from strayfiles.errors import TooMany
 from strayfiles.handlers import Hand, Reader, Sweep
 from strayfiles.moves import moved, reached
 from strayfiles.states import first_state, is_state, settled
+from strayfiles.world import World
 from tests import plain
 from tests.samples import OWN, STORE, likely_book, random_book
 
@@ -355,6 +356,16 @@ class TestBarred(unittest.TestCase):
         self.assertFalse(self.barred("put", "done", "again if nofile"))
         self.assertTrue(self.barred("put", "done", "again if named"))
         self.assertTrue(self.barred("put", "done", "mark", "unmark", "again if unmarked"))
+        # Four times round, so that it is over by its twenty-fourth statement.
+        hand = Hand("h", "done if unripe", "mark if rows", "row if unmarked", "unmark if ripe", "put", "again if unnamed")
+        book = Book(hand, Sweep("m", "mark"), age=2)
+        world = World(book)
+        book["m"](world, "c")
+        world.tick()
+        world.tick()
+        self.assertEqual(len(hand(world, "c", 0)), 24)
+        self.assertEqual((world.rows["c", 0], "c" in world.files), ("done", True))
+        self.assertEqual(faults_of(book), ())
 
 
 if __name__ == "__main__":
