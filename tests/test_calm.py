@@ -123,7 +123,8 @@ class TestRoundMoves(unittest.TestCase):
         turn = [("free", "a", index) for index in range(4)]
         self.assertEqual(round_of(Book(Sweep("a", *texts))), turn * 5)
         two = Book(Sweep("a", *texts, alone=True), Sweep("b", "mark if unmarked", "unmark"))
-        self.assertEqual(round_of(two), [("alone", "a")] + [("lone", "")] * 24 + [QUIT, ("free", "b", 0), ("free", "b", 1)])
+        self.assertEqual(round_of(two), [("alone", "a")] + [("lone", "")] * 24 + [QUIT, ("free", "b", 0),
+                                                                                  ("free", "b", 1)])
 
     def test_random_states(self):
         many = 0
@@ -357,7 +358,8 @@ class TestBarred(unittest.TestCase):
         self.assertTrue(self.barred("put", "done", "again if named"))
         self.assertTrue(self.barred("put", "done", "mark", "unmark", "again if unmarked"))
         # Four times round, so that it is over by its twenty-fourth statement.
-        hand = Hand("h", "done if unripe", "mark if rows", "row if unmarked", "unmark if ripe", "put", "again if unnamed")
+        hand = Hand("h", "done if unripe", "mark if rows", "row if unmarked", "unmark if ripe", "put",
+                    "again if unnamed")
         book = Book(hand, Sweep("m", "mark"), age=2)
         world = World(book)
         book["m"](world, "c")

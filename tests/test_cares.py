@@ -84,8 +84,10 @@ class TestCares(unittest.TestCase):
                 self.assertEqual(care != eval(text), at != other)
             for thing in any_values() + [Care()]:
                 self.assertFalse(care == thing)
-        for one, other in ((Insert("a", 1, "put"), Insert("a", 1, "done")), (Insert("a", 1, "put"), Insert("a", 2, "put")),
-                           (Insert("a", 1, "put"), Insert("b", 1, "put")), (Under("a", 1, "old"), Under("a", 1, "file")),
+        for one, other in ((Insert("a", 1, "put"), Insert("a", 1, "done")),
+                           (Insert("a", 1, "put"), Insert("a", 2, "put")),
+                           (Insert("a", 1, "put"), Insert("b", 1, "put")),
+                           (Under("a", 1, "old"), Under("a", 1, "file")),
                            (Under("a", 1, "old"), Under("a", 0, "old")), (Under("a", 1, "old"), Under("b", 1, "old")),
                            (Without("a", 1), Without("a", 2)), (Without("a", 1), Without("b", 1)),
                            (Alone("a"), Alone("b")), (Waiting(1), Waiting(2)), (Naming("own"), Naming("shared")),
@@ -120,7 +122,8 @@ class TestCared(CaredTestCase):
         texts = ["skip if file", "put", "done"]
         for at in range(4):
             self.assert_cared([Insert("store", at, "row")], with_statements("store", *texts[:at], "row", *texts[at:]))
-        self.assert_cared([Insert("eye", 0, "stop if nofile")], with_statements("eye", "stop if nofile", "touch", "read"))
+        self.assert_cared([Insert("eye", 0, "stop if nofile")],
+                          with_statements("eye", "stop if nofile", "touch", "read"))
         self.assert_cared([Insert("sweep", 2, "clear")], with_statements("sweep", "stop if named", "strike", "clear"))
 
     def test_several_at_one_place(self):
@@ -133,7 +136,8 @@ class TestCared(CaredTestCase):
 
     def test_under(self):
         self.assert_cared([Under("sweep", 1, "old")], with_statements("sweep", "stop if named", "strike if old"))
-        self.assert_cared([Under("store", 2, "marked")], with_statements("store", "skip if file", "put", "done if marked"))
+        self.assert_cared([Under("store", 2, "marked")],
+                          with_statements("store", "skip if file", "put", "done if marked"))
         self.assert_cared([Under("eye", 0, "file")], with_statements("eye", "touch if file", "read"))
 
     def test_without(self):
@@ -141,7 +145,8 @@ class TestCared(CaredTestCase):
         self.assert_cared([Without("store", 2), Without("store", 0)], with_statements("store", "put"))
 
     def test_indexes_are_those_before_any_care(self):
-        cares = [Insert("store", 0, "row"), Without("store", 0), Under("store", 1, "nofile"), Insert("store", 1, "mark"),
+        cares = [Insert("store", 0, "row"), Without("store", 0), Under("store", 1, "nofile"),
+                 Insert("store", 1, "mark"),
                  Insert("store", 3, "drop"), Without("store", 2)]
         for seed in range(10):
             order = random.Random(seed).sample(cares, len(cares))
@@ -152,7 +157,8 @@ class TestCared(CaredTestCase):
         book = Book(Sweep("a", "mark", span=2), Sweep("b", "mark"))
         self.assert_cared([Alone("a")], ["book shared age 0", "sweep a alone span 2", "mark", "sweep b", "mark"], book)
         self.assert_cared([Alone("b"), Alone("a"), Insert("a", 0, "clear")],
-                          ["book shared age 0", "sweep a alone span 2", "clear", "mark", "sweep b alone", "mark"], book)
+                          ["book shared age 0", "sweep a alone span 2", "clear", "mark", "sweep b alone", "mark"],
+                          book)
 
     def test_waiting_and_naming(self):
         for age in range(7):
@@ -161,10 +167,12 @@ class TestCared(CaredTestCase):
         self.assert_cared([Naming("shared")], BOOK.lines())
 
     def test_all_else_stays(self):
-        book = Book(Hand("a", "put", begins="done", span=0), Hand("b", "put", begins="open"), Reader("r", "read", span=3),
+        book = Book(Hand("a", "put", begins="done", span=0), Hand("b", "put", begins="open"),
+                    Reader("r", "read", span=3),
                     names="own", age=2, off=1, keep=2)
         self.assert_cared([Insert("a", 0, "mark"), Insert("b", 1, "mark"), Without("r", 0), Insert("r", 0, "read")],
-                          ["book own age 2 off 1 keep 2", "hand a from done span 0", "mark", "put", "hand b from open", "put",
+                          ["book own age 2 off 1 keep 2", "hand a from done span 0", "mark", "put",
+                           "hand b from open", "put",
                            "mark", "reader r span 3", "read"], book)
 
     def test_arguments_are_not_changed(self):
@@ -194,18 +202,21 @@ class TestWrongCares(CaredTestCase):
             if at not in (0, 1, 2) or isinstance(at, bool):
                 self.assert_all_wrong([Insert("store", at, "put"), Under("store", at, "file"), Without("store", at)])
         self.assert_all_wrong([Insert("store", 4, "put"), Insert("store", -1, "put"), Under("store", 3, "marked"),
-                               Without("store", 3), Without("eye", 2), Without("store", True), Insert("store", True, "put"),
+                               Without("store", 3), Without("eye", 2), Without("store", True),
+                               Insert("store", True, "put"),
                                Under("store", True, "nofile"), Under("store", -1, "marked")])
 
     def test_no_statement(self):
         for text in any_values() + ["put ", "strike if rows", "read", "clear", "stop", "put if mine"]:
             self.assert_all_wrong([Insert("store", 0, text)])
-        self.assert_all_wrong([Insert("sweep", 0, "put"), Insert("sweep", 0, "stop if mine"), Insert("eye", 0, "strike"),
+        self.assert_all_wrong([Insert("sweep", 0, "put"), Insert("sweep", 0, "stop if mine"),
+                               Insert("eye", 0, "strike"),
                                Insert("eye", 2, "mark"), Insert("sweep", 1, "read")])
 
     def test_no_act_without_a_condition(self):
         for condition in ("file", "old", "marked"):
-            self.assert_all_wrong([Under("store", 0, condition), Under("sweep", 0, condition), Under("eye", 1, condition)])
+            self.assert_all_wrong([Under("store", 0, condition), Under("sweep", 0, condition),
+                                   Under("eye", 1, condition)])
         book = Book(Hand("h", "put if old"))
         self.assert_all_wrong([Under("h", 0, "file"), Under("h", 0, "old")], book)
 
@@ -223,12 +234,15 @@ class TestWrongCares(CaredTestCase):
             if thing not in (0, 1, 2) or isinstance(thing, bool):
                 self.assert_wrong([Waiting(thing)], 0)
             self.assert_wrong([Naming(thing)], 0)
-        for care in (Waiting(7), Waiting(-1), Waiting("3"), Waiting(True), Naming("Own"), Naming("age"), Naming(("own",))):
+        for care in (Waiting(7), Waiting(-1), Waiting("3"), Waiting(True), Naming("Own"), Naming("age"),
+                     Naming(("own",))):
             self.assert_wrong([care], 0)
 
     def test_cares_that_collide(self):
-        pairs = [(Under("sweep", 1, "old"), Without("sweep", 1)), (Under("sweep", 1, "old"), Under("sweep", 1, "file")),
-                 (Without("store", 0), Without("store", 0)), (Alone("sweep"), Alone("sweep")), (Waiting(1), Waiting(2)),
+        pairs = [(Under("sweep", 1, "old"), Without("sweep", 1)),
+                 (Under("sweep", 1, "old"), Under("sweep", 1, "file")),
+                 (Without("store", 0), Without("store", 0)), (Alone("sweep"), Alone("sweep")),
+                 (Waiting(1), Waiting(2)),
                  (Waiting(1), Waiting(1)), (Naming("own"), Naming("shared")), (Naming("own"), Naming("own"))]
         for one, other in pairs:
             for first, second in ((one, other), (other, one)):
@@ -237,7 +251,8 @@ class TestWrongCares(CaredTestCase):
 
     def test_cares_that_do_not_collide(self):
         book = Book(Sweep("a", "mark", "mark"), Sweep("b", "mark", "mark"))
-        cares = [Without("a", 0), Under("a", 1, "rows"), Without("b", 0), Under("b", 1, "rows"), Alone("a"), Alone("b"),
+        cares = [Without("a", 0), Under("a", 1, "rows"), Without("b", 0), Under("b", 1, "rows"), Alone("a"),
+                 Alone("b"),
                  Waiting(1), Naming("own"), Insert("a", 0, "clear"), Insert("a", 0, "clear"), Insert("b", 1, "clear")]
         self.assert_cared(cares, ["book own age 1", "sweep a alone", "clear", "clear", "mark if rows",
                                   "sweep b alone", "clear", "mark if rows"], book)
@@ -254,7 +269,8 @@ class TestWrongCares(CaredTestCase):
         many = more + [Insert("sweep", 0, "clear")] * 4 + [Insert("eye", 0, "touch")]
         self.assertEqual(sum(len(one) for one in cared(BOOK, many)), 16)
         self.assert_wrong(many + [Insert("eye", 0, "touch")], -1)
-        self.assertEqual(sum(len(one) for one in cared(BOOK, many + [Insert("eye", 0, "touch"), Without("eye", 0)])), 16)
+        self.assertEqual(sum(len(one) for one in cared(BOOK, many + [Insert("eye", 0, "touch"), Without("eye", 0)])),
+                         16)
 
     def test_a_care_that_cannot_be_made_comes_first(self):
         self.assert_wrong([Without("lone", 0), None], 1)

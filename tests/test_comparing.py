@@ -2,23 +2,23 @@
 
 import inspect
 import itertools
+import random
 import unittest
+from unittest import mock
 
 from strayfiles import comparing as module
 from strayfiles.books import Book
 from strayfiles.comparing import Comparison, compare, has_history, history, is_comparison, look_of
 from strayfiles.crowds import spelled
 from strayfiles.errors import BadWalk, TooMany
-from strayfiles.handlers import Hand, Reader, Sweep
-from strayfiles.moves import moves_of, moved, reached, walked
+from strayfiles.handlers import Hand, Sweep
+from strayfiles.moves import reached, walked
 from strayfiles.states import first_state, settled
 from strayfiles.world import World
 from tests import plain
 from tests.samples import OWN, STORE, any_values, likely_book, random_book
 from tests.test_crowds import random_walk
 from tests.test_looker import spoilt
-
-import random
 
 OPEN, DONE = ("open", "", 0, 0), ("done", "", 0, 0)
 NONE, NAME, FILE, BOTH = (0, 0), (0, 1), (1, 0), (1, 1)
@@ -148,7 +148,8 @@ class TestHasHistory(unittest.TestCase):
                         self.assertIs(has_history(book, thing, most=60), thing in known)
 
     def test_any_values(self):
-        for thing in any_values() + [[], [FILE], (list(FILE),), FILE, ((1,),), ((1, 0, 0),), ((True, 0),), ((1, False),),
+        for thing in any_values() + [[], [FILE], (list(FILE),), FILE, ((1,),), ((1, 0, 0),), ((True, 0),),
+                                     ((1, False),),
                                      ((1, None),), (FILE, (1, True)), (FILE, [1, 1]), ((2, 0),), ((-1, 0),), ((1, 2),),
                                      ("10",), (FILE, None), {FILE: True}]:
             self.assertIs(has_history(PUT_FIRST, thing), thing == () and isinstance(thing, tuple), thing)
@@ -168,7 +169,8 @@ class TestCompare(unittest.TestCase):
         self.assertIsInstance(found, Comparison)
         self.assertIs(bool(found), True)
         self.assertEqual(found.parting, ())
-        self.assertEqual(found.certificate, ("alike", ((tuple(reached(STILL)), (first_state(Book(Sweep("b", "unmark"))),)),)))
+        self.assertEqual(found.certificate, ("alike",
+                                             ((tuple(reached(STILL)), (first_state(Book(Sweep("b", "unmark"))),)),)))
 
     def test_other_names_and_another_order(self):
         one = Book(Hand("a", "skip if file", "put", "done"), Hand("b", "drop", begins="done"), Sweep("c", "strike"))
@@ -196,7 +198,8 @@ class TestCompare(unittest.TestCase):
         self.assertEqual(compare(other, PUT_FIRST).certificate, ("parted", (FILE, BOTH, NAME), 0))
 
     def test_ticks_matter_only_by_what_is_seen(self):
-        one, other = Book(Hand("h", "put"), Sweep("a", "strike"), age=0), Book(Hand("h", "put"), Sweep("a", "strike"), age=6)
+        one = Book(Hand("h", "put"), Sweep("a", "strike"), age=0)
+        other = Book(Hand("h", "put"), Sweep("a", "strike"), age=6)
         self.assertTrue(compare(one, other))
         other = Book(Hand("h", "put"), Sweep("a", "strike if old"), age=6)
         self.assertTrue(compare(one, other))
@@ -264,27 +267,30 @@ class TestMost(unittest.TestCase):
                 self.assert_too_many("states", is_comparison, one, other, thing, most=many - 1)
 
     def test_pairs(self):
-        """A book of few states, which can be in many sets of them."""
-        counted = 0
-        for seed in range(400):
-            book = likely_book(seed)
-            try:
-                states = len(reached(book, most=30))
-            except TooMany:
-                continue
-            pairs = len(compare(book, book, most=400).certificate[1])
-            compare(book, book, most=max(pairs, states))
-            if pairs > states:
-                counted += 1
-                self.assert_too_many("pairs", compare, book, book, most=pairs - 1)
-                self.assertTrue(is_comparison(book, book, compare(book, book, most=pairs).certificate, most=states))
-        self.assertGreaterEqual(counted, 0)
+        """A sweep that gets further whenever what it waits for is seen remembers what was seen."""
+        hands = [Hand("p", "put"), Sweep("s", "strike"), Hand("d", "done"), Hand("r", "drop", begins="done")]
+        one = Book(*hands, Sweep("m", "stop if nofile", "stop if file", "stop if nofile", "stop if file"))
+        other = Book(*hands, Sweep("m", "stop if unnamed", "stop if named", "stop if unnamed", "stop if named"))
+        self.assertEqual((len(reached(one)), len(reached(other))), (20, 18))
+        self.assertEqual(len(compare(one, other).certificate[1]), 25)
+        self.assertEqual(len(compare(one, other, most=25).certificate[1]), 25)
+        for most in (20, 22, 24):
+            self.assert_too_many("pairs", compare, one, other, most=most)
+            self.assertTrue(is_comparison(one, other, compare(one, other).certificate, most=most))
+        self.assert_too_many("states", compare, one, other, most=19)
+        self.assert_too_many("states", compare, other, one, most=19)
 
     def test_pairs_that_are_reached_before_the_books_part(self):
-        chain = [Hand("a", "put", "done", "strike", "drop")]
-        one = Book(*chain)
-        self.assertLess(len(reached(one)), 60)
-        self.assertTrue(compare(one, one, most=60))
+        """Only those that shorter histories reach count; the bound of the states is left out here."""
+        hands = [Hand("p", "put"), Hand("t", "strike"), Hand("d", "done"), Hand("r", "drop", begins="done")]
+        one = Book(*hands, Sweep("m", "stop if nofile", "stop if file"), names="own")
+        other = Book(*hands, Sweep("m", "stop if unnamed", "stop if named", "strike"), names="own")
+        explored = module.explored
+        with mock.patch.object(module, "explored", lambda book, most: explored(book, 400)):
+            self.assertEqual(len(compare(one, other, most=400).parting), 5)
+            self.assertEqual(len(compare(one, other, most=11).parting), 5)
+            self.assert_too_many("pairs", compare, one, other, most=10)
+            self.assertEqual(compare(PUT_FIRST, ROW_FIRST, most=1).certificate[0], "parted")
 
     def test_defaults(self):
         for call in (has_history, compare, is_comparison):
@@ -313,7 +319,8 @@ class TestIsComparison(unittest.TestCase):
             self.assert_not_let((kind, rest))
             self.assert_not_let((kind, pairs + (pairs[at],)))
             for wrong in ((others, some), (some, others, some), (some,), [some, others], (list(some), others),
-                          (some, list(others)), (some, ()), ((), others), (some + some[-1:], others), (some[::-1] + some, others),
+                          (some, list(others)), (some, ()), ((), others), (some + some[-1:], others),
+                          (some[::-1] + some, others),
                           (some[:-1] + (None,), others), (some, others[:-1] + (None,)), None, some):
                 self.assert_not_let((kind, rest + (wrong,)))
         self.assert_not_let((kind, ()))
@@ -381,8 +388,10 @@ class TestIsComparison(unittest.TestCase):
     def test_any_values(self):
         alike = compare(self.ONE, self.OTHER).certificate
         for thing in any_values() + [alike[:1], alike + (0,), list(alike), ("alike", list(alike[1])), ("alike", None),
-                                     ("parted", (FILE,)), ("parted",), ("parted", (FILE,), 0, 0), ["parted", (FILE,), 0],
-                                     ("Alike", alike[1]), (True, alike[1]), ("alike", alike[1], 0), ("parted", alike[1]),
+                                     ("parted", (FILE,)), ("parted",), ("parted", (FILE,), 0, 0),
+                                     ["parted", (FILE,), 0],
+                                     ("Alike", alike[1]), (True, alike[1]), ("alike", alike[1], 0),
+                                     ("parted", alike[1]),
                                      ("alike", "alike"), (0, (FILE,), 0), ("kept", ())]:
             self.assert_not_let(thing)
         self.assertIs(is_comparison(one=self.ONE, other=self.OTHER, thing=alike), True)

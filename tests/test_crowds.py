@@ -17,7 +17,8 @@ from tests.samples import OWN, STORE, any_values, likely_book, random_book
 
 # Hands that begin from each standing, sweeps called alone and not, a reader; shared names.
 WIDE = Book(Hand("store", "row", "put", "done", span=2), Hand("late", "put if old", "drop", begins="open"),
-            Sweep("broom", "strike if old", "clear", alone=True, span=1), Sweep("mop", "mark", "unmark if ripe", span=3),
+            Sweep("broom", "strike if old", "clear", alone=True, span=1),
+            Sweep("mop", "mark", "unmark if ripe", span=3),
             Reader("eye", "touch if old", "read", span=1), Hand("wipe", "drop", "strike", begins="done"),
             age=1, off=1, keep=1)
 
@@ -154,7 +155,8 @@ class TestSpelled(CrowdsTestCase):
         moves[3] = ("step", "open", "a", 2, 0, "old", "all")
         self.assert_spelled(book, moves[:4])
         late = [("begin", "open", "b", "some"), ("step", "open", "b", 0, 0, "", "some")]
-        book = Book(Hand("a", "put", "row"), Hand("b", "put if nofile", "touch if old", "done if marked", begins="open"),
+        book = Book(Hand("a", "put", "row"), Hand("b", "put if nofile", "touch if old", "done if marked",
+                                                  begins="open"),
                     age=1)
         walk = [("free", "a", 0), ("free", "a", 1)] + late + [("begin", "open", "b", "some"), ("tick",),
                                                              ("step", "open", "b", 1, 0, "old", "all")]
@@ -212,7 +214,8 @@ class TestSpelled(CrowdsTestCase):
     def test_wrong_moves(self):
         book = Book.read(STORE)
         moves = judge(book).weaving
-        for thing in any_values() + [("free", "store", 0), ["tick"], ("copy",), ("free", "store", True), ("lone", "old")]:
+        for thing in any_values() + [("free", "store", 0), ["tick"], ("copy",), ("free", "store", True),
+                                     ("lone", "old")]:
             for at in range(3):
                 for kind in (list, tuple):
                     with self.assertRaises(BadWalk) as caught:
@@ -258,7 +261,8 @@ class TestPlayed(unittest.TestCase):
     def test_wrong_events(self):
         book = Book.read(STORE)
         events = (("begin", "store", 0), ("step", 0, ""), ("tick",))
-        wrong = [("step", 1, ""), ("step", 0, "new"), ("begin", "store", 0), ("begin", "store", -1), ("begin", "broom", 0),
+        wrong = [("step", 1, ""), ("step", 0, "new"), ("begin", "store", 0), ("begin", "store", -1),
+                 ("begin", "broom", 0),
                  ("begin", "nobody", 0), ("fall", 1), ("fall", True), ("step", False, ""), ("tick", 0), ["tick"],
                  ("begin", "store", 10 ** 9 + 1), ("begin", "store", None), ("copied",)]
         for thing in any_values() + wrong:

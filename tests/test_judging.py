@@ -98,7 +98,8 @@ class TestVerdict(unittest.TestCase):
 
 class TestAsks(unittest.TestCase):
     def test_by_name_and_with_defaults(self):
-        self.assertEqual(judge(book=LATE).certificate, judge(LATE, asks=["lost", "blind", "stray"], most=100).certificate)
+        self.assertEqual(judge(book=LATE).certificate,
+                         judge(LATE, asks=["lost", "blind", "stray"], most=100).certificate)
         parameters = inspect.signature(judge).parameters
         self.assertEqual((parameters["asks"].default, parameters["most"].default), (("lost", "blind", "stray"), 100))
         for name in ("asks", "most"):

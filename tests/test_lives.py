@@ -8,7 +8,7 @@ from strayfiles import lives as module
 from strayfiles.books import Book
 from strayfiles.calm import round_moves
 from strayfiles.errors import TooMany
-from strayfiles.handlers import Hand, Reader, Sweep
+from strayfiles.handlers import Hand, Sweep
 from strayfiles.lives import Life, is_life, longest, ways
 from strayfiles.moves import moved, moves_of, reached, walked
 from strayfiles.states import first_state, settled
@@ -123,7 +123,8 @@ class TestLongest(unittest.TestCase):
     def test_how_the_life_depends_on_the_age_and_the_span(self):
         for age in range(4):
             for span in (0, 1, 2, 3):
-                book = Book(Hand("h", "skip if file", "put", "done", span=span), Sweep("a", "stop if named", "strike if old"),
+                book = Book(Hand("h", "skip if file", "put", "done", span=span),
+                            Sweep("a", "stop if named", "strike if old"),
                             age=age)
                 rank = plain.ranks(book, reached(book, most=400))
                 self.assertEqual(longest(book, most=400).ticks, max(rank.values()))
@@ -218,7 +219,8 @@ class TestIsLifeThatEnds(LifeTestCase):
         self.assertIs(self.let(self.STATES[::-1], self.ROWS[::-1]), True)
 
     def test_greater_ranks(self):
-        self.assertIs(self.let(self.STATES, tuple((one, rounded, 2 * rank + 5) for one, rounded, rank in self.ROWS)), True)
+        self.assertIs(self.let(self.STATES, tuple((one, rounded, 2 * rank + 5) for one, rounded, rank in self.ROWS)),
+                      True)
 
     def test_a_rank_that_is_wrong(self):
         """A rank that is less breaks the way from there or one that leads there."""

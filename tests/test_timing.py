@@ -12,7 +12,7 @@ from strayfiles.handlers import Hand, Reader, Sweep
 from strayfiles.times import Moment, Span
 from strayfiles.timing import Times, Timetable, bounds, possible_ages, timetable, untimed
 from tests import plain
-from tests.samples import OWN, STORE, any_values, likely_book, random_book
+from tests.samples import OWN, any_values, likely_book, random_book
 from tests.test_crowds import WIDE, random_walk
 
 HUGE = 10 ** 30 - 1
@@ -150,13 +150,16 @@ class TestBounds(unittest.TestCase):
         begin, other = ("begin", "alpha", 0), ("begin", "beta", -1)
         times = times_of(5, alpha=7)
         # Over by its last step, by a fall, or not over.
-        self.assertEqual(bounds(BOOK, [begin, ("step", 0, ""), other, ("step", 0, "")], times), sorted(order + [(0, 3, 7)]))
-        self.assertEqual(bounds(BOOK, [begin, ("step", 0, ""), other, ("fall", 0)], times), sorted(order + [(0, 2, 7)]))
+        self.assertEqual(bounds(BOOK, [begin, ("step", 0, ""), other, ("step", 0, "")], times),
+                         sorted(order + [(0, 3, 7)]))
+        self.assertEqual(bounds(BOOK, [begin, ("step", 0, ""), other, ("fall", 0)], times),
+                         sorted(order + [(0, 2, 7)]))
         self.assertEqual(bounds(BOOK, [begin, ("step", 0, ""), other, other], times), sorted(order + [(0, 3, 7)]))
         self.assertEqual(bounds(BOOK, [begin], times), [(0, 0, 7)])
         self.assertEqual(bounds(BOOK, [begin, ("fall", 0)], times), [(0, 0, 7), (1, 0, 0)])
         self.assertEqual(bounds(BOOK, [other, begin], times), [(1, 0, 0), (1, 1, 7)])
-        self.assertEqual(bounds(BOOK, [begin, ("fall", 0), begin], times), [(0, 0, 7), (1, 0, 0), (2, 1, 0), (2, 2, 7)])
+        self.assertEqual(bounds(BOOK, [begin, ("fall", 0), begin], times),
+                         [(0, 0, 7), (1, 0, 0), (2, 1, 0), (2, 2, 7)])
 
     def test_spans_of_the_book_and_of_nobody_mean_nothing(self):
         self.assertEqual(bounds(BOOK, PUT, times_of(5, nobody=1)), [(1, 0, 0)])
@@ -175,7 +178,8 @@ class TestBounds(unittest.TestCase):
 
     def test_readings_of_the_mark(self):
         book = Book(Hand("h", "put", "mark", "stop if ripe", "put", "stop if unripe"))
-        events = [("begin", "h", 0), ("step", 0, ""), ("step", 0, ""), ("step", 0, "young"), ("step", 0, ""), ("step", 0, "old")]
+        events = [("begin", "h", 0), ("step", 0, ""), ("step", 0, ""), ("step", 0, "young"), ("step", 0, ""),
+                  ("step", 0, "old")]
         order = [(at + 1, at, 0) for at in range(5)]
         self.assertEqual(bounds(book, events, times_of(4, 1)), sorted(order + [(2, 3, 4), (5, 2, -3)]))
 
@@ -325,7 +329,8 @@ class TestTimetable(unittest.TestCase):
         for seed in range(2):
             events = untimed(WIDE, spelled(WIDE, random_walk(WIDE, random.Random(seed), 300, ("quit", "fall"))))
             self.assertGreater(len(events), 250)
-            for times in (times_of(1, 1, store=2, broom=1, mop=3, eye=1), times_of(HUGE, mop=HUGE), times_of(HUGE, eye=0)):
+            for times in (times_of(1, 1, store=2, broom=1, mop=3, eye=1), times_of(HUGE, mop=HUGE),
+                          times_of(HUGE, eye=0)):
                 found.append(self.check(WIDE, events, times))
         self.assertIn(True, found)
         self.assertIn(False, found)
@@ -424,7 +429,8 @@ class TestPossibleAges(unittest.TestCase):
                 except BadEvent:
                     continue
                 possible = [age for age in range(60)
-                            if plain.moments(len(events), bounds(book, events, times_of(age, off, **spans))) is not None]
+                            if plain.moments(len(events),
+                                             bounds(book, events, times_of(age, off, **spans))) is not None]
                 if found is None:
                     self.assertEqual(possible, [])
                     kinds.add(None)
@@ -451,7 +457,8 @@ class TestWrongEvents(unittest.TestCase):
                 self.assertEqual(caught.exception.at, at)
 
     def test_any_values(self):
-        wrong = [("tick",), ("copy",), ("fall", 1), ("fall", 0.0), ("fall", False), ("step", 1, ""), ("step", 0, "right"),
+        wrong = [("tick",), ("copy",), ("fall", 1), ("fall", 0.0), ("fall", False), ("step", 1, ""),
+                 ("step", 0, "right"),
                  ("begin", "alpha", 0), ("begin", "alpha", -1), ("begin", "beta", 0), ("begin", "eye", -1),
                  ("begin", "nobody", 0), ("begin", "alpha", 10 ** 9 + 1), ["fall", 0], ("step", 0), ("alpha",)]
         for thing in any_values() + wrong:
