@@ -213,6 +213,4 @@ def are_asks(thing, known):
     """Whether any value is a list or tuple of one or more different ones of the known faults."""
     if not isinstance(thing, (list, tuple)) or len(thing) == 0:
         return False
-    if not all([isinstance(ask, str) and ask in known for ask in thing]):
-        return False
-    return len(set(thing)) == len(thing)
+    return all([ask in known for ask in thing]) and len(set(thing)) == len(thing)

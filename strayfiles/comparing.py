@@ -181,11 +181,9 @@ def is_alike(one, other, thing):
 def is_comparison(one, other, thing, *, most=100):
     """Whether any value is a certificate that two books are alike or parted."""
     first, second = Watch(one, most), Watch(other, most)
-    if is_tuple(thing, 2) and isinstance(thing[0], str) and thing[0] == "alike":
+    if is_tuple(thing, 2) and thing[0] == "alike":
         return is_alike(first, second, thing[1])
-    if not is_tuple(thing, 3) or not isinstance(thing[0], str) or thing[0] != "parted":
-        return False
-    if not is_between(thing[2], 0, 1):
+    if not is_tuple(thing, 3) or thing[0] != "parted" or not is_between(thing[2], 0, 1):
         return False
     had = (first.has(thing[1]), second.has(thing[1]))
     return had == ((True, False) if thing[2] == 0 else (False, True))

@@ -180,7 +180,7 @@ def is_loop(book, moves, found):
 
 def is_life(book, thing):
     """Whether any value is a certificate of the life of the book."""
-    if not is_tuple(thing, 3) or not isinstance(thing[0], str):
+    if not is_tuple(thing, 3):
         return False
     if thing[0] == "ends":
         return is_end(book, thing[1], thing[2])

@@ -40,7 +40,7 @@ def is_certificate(book, thing, *, asks=("lost", "blind", "stray")):
     """Whether any value is a certificate that the book is kept or broken."""
     if not are_asks(asks, FAULTS):
         raise BadAsks(asks)
-    if not is_tuple(thing, 2) or not isinstance(thing[0], str):
+    if not is_tuple(thing, 2):
         return False
     finder = Finder(book)
     if thing[0] == "kept":
