@@ -35,8 +35,7 @@ def may_stand_under(book, name, at, condition):
     """Whether there is an act without a condition that may have this one; any values."""
     if not has_statement(book, name, at) or not isinstance(condition, str):
         return False
-    if book[name].statements[at].condition is not None:
-        return False
+    # No statement has two conditions.
     return may_have(book[name].kind, under(book, name, at, condition))
 
 
@@ -227,7 +226,7 @@ class Naming(Care):
         return f"Naming({self.names!r})"
 
     def fits(self, book):
-        return isinstance(self.names, str) and self.names in NAMINGS
+        return self.names in NAMINGS
 
     def claim(self):
         return ("names",)

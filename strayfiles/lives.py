@@ -2,7 +2,7 @@
 
 from strayfiles.calm import state_after_round
 from strayfiles.looker import is_closed, states_of_walk
-from strayfiles.moves import explored, moves_to, steps_from
+from strayfiles.moves import explored, is_flat, moves_to, steps_from
 from strayfiles.order import ascending
 from strayfiles.states import is_state, is_tuple, sight_of
 from strayfiles.times import is_between, is_whole
@@ -158,7 +158,7 @@ def is_end(book, states, rows):
 
 def stand_after(book, stand, way):
     """The stand to which any value leads as a way from a stand, in a list; none if it is no way."""
-    if not isinstance(way, tuple) or not all([isinstance(part, str) or is_whole(part) for part in way]):
+    if not is_flat(way):
         return []
     return [new for known, new in ways_from(book, stand) if known == way]
 

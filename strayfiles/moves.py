@@ -255,12 +255,14 @@ def made(book, state, move):
     return settled(book, action(book, state, move))
 
 
+def is_flat(thing):
+    """Whether any value is a tuple of strings and integers, in which True would be taken for 1."""
+    return isinstance(thing, tuple) and all([isinstance(part, str) or is_whole(part) for part in thing])
+
+
 def is_move(book, state, thing):
     """Whether any value is a move of the state."""
-    # In a tuple True would be taken for 1.
-    if not isinstance(thing, tuple) or not all([isinstance(part, str) or is_whole(part) for part in thing]):
-        return False
-    return thing in all_moves(book, state)
+    return is_flat(thing) and thing in all_moves(book, state)
 
 
 def moved(book, state, move):

@@ -101,6 +101,15 @@ class TestCares(unittest.TestCase):
         self.assertNotEqual(Naming([1]), Naming((1,)))
 
 
+class Old:
+    """What is written as a condition, but is no string."""
+
+    def __str__(self):
+        return "old"
+
+    __repr__ = __str__
+
+
 class CaredTestCase(unittest.TestCase):
     def assert_cared(self, cares, lines, book=BOOK):
         for kind in (list, tuple):
@@ -221,7 +230,7 @@ class TestWrongCares(CaredTestCase):
         self.assert_all_wrong([Under("h", 0, "file"), Under("h", 0, "old")], book)
 
     def test_no_condition_of_the_act(self):
-        for condition in any_values() + ["", "rows", "mine", "marked", "old ", " old", "file if old", "Old"]:
+        for condition in any_values() + ["", "rows", "mine", "marked", "old ", " old", "file if old", "Old", Old()]:
             self.assert_all_wrong([Under("store", 1, condition), Under("sweep", 1, condition)])
         self.assert_all_wrong([Under("store", 2, "old"), Under("store", 2, "rows"), Under("lone", 0, "file")])
         self.assert_cared([Under("lone", 0, "rows")], with_statements("lone", "mark if rows"))
