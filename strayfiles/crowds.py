@@ -117,7 +117,9 @@ class Weaver:
     def _step_action(self, name, index, reading, new):
         """A step with a reading, and with the one of those that take it directly afterwards."""
         later = readings_of(self.book, self.book[name].statements[index], sight_of(new, "none"))
-        return "step", reading, reading if reading in later else later[0]
+        if reading in later:
+            return "step", reading, reading
+        return "step", reading, later[0]
 
     def _go_alone(self, slot, move, new):
         """The sweep that is called alone begins, goes on or falls."""

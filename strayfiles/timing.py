@@ -276,4 +276,6 @@ def possible_ages(book, events, times):
     if not least:
         return None
     greatest = greatest_possible(len(events), limits)
-    return Span(least[0]), None if greatest is None else Span(greatest)
+    if greatest is None:
+        return Span(least[0]), None
+    return Span(least[0]), Span(greatest)

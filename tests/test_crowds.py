@@ -141,27 +141,42 @@ class TestSpelled(CrowdsTestCase):
                     self.assert_spelled(book, verdict.weaving)
 
     def test_another_reading_for_the_copy(self):
-        """The first run puts the old file; the others that do the same find a young one."""
-        book = Book(Hand("a", "put if nofile", "row", "put if old", "done"), age=1)
-        state, moves = first_state(book), []
-        for move in (("free", "a", 0), ("free", "a", 1), ("tick",), ("step", "open", "a", 2, 0, "old", "some"),
-                     ("step", "open", "a", 3, 0, "", "all")):
-            state = moved(book, state, move)
-            moves.append(move)
+        """Two runs stand before the old file; when the first one has touched it, it is young for the other."""
+        book = Book(Hand("a", "put", "row"), Hand("b", "touch if old", "done if marked", begins="open"), age=1)
+        moves = [("free", "a", 0), ("free", "a", 1), ("begin", "open", "b", "some"), ("begin", "open", "b", "all"),
+                 ("tick",), ("step", "open", "b", 0, 0, "old", "all")]
         events = self.assert_spelled(book, moves)
-        readings = [event[2] for event in events if event[0] == "step"]
-        self.assertIn("old", readings)
-        # All that are at the post go along, the first with the file as it was.
-        moves[3] = ("step", "open", "a", 2, 0, "old", "all")
-        self.assert_spelled(book, moves[:4])
-        late = [("begin", "open", "b", "some"), ("step", "open", "b", 0, 0, "", "some")]
-        book = Book(Hand("a", "put", "row"), Hand("b", "put if nofile", "touch if old", "done if marked",
-                                                  begins="open"),
-                    age=1)
-        walk = [("free", "a", 0), ("free", "a", 1)] + late + [("begin", "open", "b", "some"), ("tick",),
-                                                             ("step", "open", "b", 1, 0, "old", "all")]
-        events = self.assert_spelled(book, walk)
-        self.assertIn(("open", "b", 2, 0), walked(book, walk)[-1][5])
+        self.assertEqual(walked(book, moves)[-1][5], (("open", "b", 1, 0),))
+        self.assertEqual([event[2] for event in events if event[0] == "step" and event[2]], ["old", "young"])
+        # The condition does not hold for either, so both read the same.
+        moves[-1] = ("step", "open", "b", 0, 0, "young", "all")
+        book = Book(*book.handlers, age=1, off=1)
+        events = self.assert_spelled(book, moves)
+        self.assertEqual([event[2] for event in events if event[0] == "step" and event[2]], ["young", "young"])
+
+    def test_copies_only_where_one_more_is_needed(self):
+        def begun(book, moves):
+            """The hands that begin, by their rows."""
+            rows = {}
+            for event in self.assert_spelled(book, moves):
+                if event[0] == "begin":
+                    rows.setdefault(event[2], []).append(event[1])
+            return sorted(rows.values())
+        book = Book(Hand("h", "put", "strike"))
+        self.assertEqual(begun(book, []), [["h"]])
+        # The one that put stands at the next statement, and another one where it began.
+        self.assertEqual(begun(book, [("free", "h", 0)]), [["h"]] * 2)
+        self.assertEqual(begun(book, [("free", "h", 0), ("free", "h", 1)]), [["h"]] * 3)
+        book = Book(Hand("a", "row"), Hand("b", "mark", begins="open"), Hand("c", "mark", begins="open"))
+        moves = [("free", "a", 0), ("begin", "open", "b", "some")]
+        self.assertEqual(begun(book, moves), [["a"], ["a"], ["a", "b"]])
+        moves.append(("begin", "open", "c", "some"))
+        self.assertEqual(begun(book, moves), [["a"], ["a"], ["a", "b"], ["a", "c"]])
+        # Now there are two idle rows, of which one can go.
+        moves[2:] = [("fall", "open", "b", 0, 0, "all"), ("begin", "open", "c", "some")]
+        self.assertEqual(begun(book, moves), [["a"], ["a"], ["a", "b", "c"]])
+        moves[2:] = [("fall", "open", "b", 0, 0, "all"), ("begin", "open", "c", "all")]
+        self.assertEqual(begun(book, moves), [["a"], ["a", "b", "c"], ["a", "c"]])
 
     def test_the_number_of_events(self):
         """Each move needs one run or row more at most, which does at most what the moves say."""

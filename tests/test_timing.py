@@ -415,6 +415,17 @@ class TestPossibleAges(unittest.TestCase):
             self.assertEqual(self.ages(events, book=book, h=span), (0, span // 2))
             self.assertEqual(self.ages(events, 3, book=book, h=span), (0, (span + 6) // 2))
 
+    def test_a_least_age_between_two(self):
+        """Three times an age less one tick must be as much as an age, which it is from one and a half on."""
+        book = Book(Hand("h", "put", "mark", "touch if young", "touch if young", "skip if unripe", "stop if old"))
+        readings = ["", "", "young", "young", "old", "young"]
+        events = [("begin", "h", 0)] + [("step", 0, reading) for reading in readings]
+        self.assertEqual(self.ages(events, book=book), (2, None))
+        self.assertEqual(self.ages(events, 1, book=book), (0, None))
+        self.assertEqual(self.ages(events, book=book, h=7), (2, 7))
+        self.assertEqual(self.ages(events, book=book, h=2), (2, 2))
+        self.assertEqual(self.ages(events, book=book, h=1), None)
+
     def test_random_events(self):
         kinds = set()
         for make in (random_book, likely_book):
