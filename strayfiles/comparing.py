@@ -23,6 +23,11 @@ def history(book, moves):
     return tuple([look for before, look in zip(looks, looks[1:]) if look != before])
 
 
+def goals_of(steps):
+    """The different states to which steps lead."""
+    return list({new: True for _, new in steps})
+
+
 class Watch:
     """What a stranger may know of a book: in which states it can be after a history."""
 
@@ -30,8 +35,10 @@ class Watch:
         search = explored(book, most)
         self.book = book
         # For each state that moves reach those to which one move leads, and its look.
-        self._onward = {state: [new for _, new in search.steps[state]] for state in search.steps}
+        self._onward = {state: goals_of(search.steps[state]) for state in search.steps}
         self._looks = {state: look_of(state) for state in self._onward}
+        # What was found already of the states in which it can be next.
+        self._found = {}
 
     def knows(self, thing):
         """Whether any value is a state that moves reach."""
@@ -63,7 +70,10 @@ class Watch:
 
     def after(self, states, look):
         """The states in which it can be when this other look is seen next."""
-        return self._all_from([new for state in states for new in self._onward[state] if self._looks[new] == look])
+        if (states, look) not in self._found:
+            seen = [new for state in states for new in self._onward[state] if self._looks[new] == look]
+            self._found[states, look] = self._all_from(seen)
+        return self._found[states, look]
 
     def has(self, thing):
         """Whether any value is a history."""
