@@ -150,6 +150,9 @@ class TestCalmMoves(unittest.TestCase):
         self.assertEqual(calm_of(book, age=0), [TICK, TICK, ("free", "a", 0)])
         self.assertEqual(calm_of(book, age=2), [("free", "a", 0)])
         self.assertEqual(calm_of(book, age=2, mark=1), [TICK, ("free", "a", 0)])
+        book = Book(Sweep("a", "strike if old"), age=6, off=2)
+        self.assertEqual(calm_of(book, age=0), [TICK] * 8 + [("free", "a", 0)])
+        self.assertEqual(calm_of(Book(Sweep("a", "strike if old")), age=0), [("free", "a", 0)])
         book = Book(Hand("h", "put", span=1), keep=3)
         self.assertEqual(calm_of(book, rows=[DONE], copy=2), [TICK] * 3)
 

@@ -24,7 +24,8 @@ ENDING = [
     Book.read(STORE),
     Book(Hand("h", "skip if file", "put", "done", span=1), Sweep("a", "stop if named", "strike if old"), age=2),
     Book(Hand("h", "skip if file", "put", "done", span=2), Sweep("a", "strike if old", alone=True), age=1, off=1),
-    Book(Hand("h", "skip if file", "put", span=0), Sweep("a", "stop if unmarked", "strike"), Sweep("b", "mark"), age=1),
+    Book(Hand("h", "skip if file", "put", span=0), Sweep("a", "stop if unmarked", "strike"), Sweep("b", "mark"),
+         age=1),
 ]
 
 
@@ -140,7 +141,8 @@ class TestWeavings(unittest.TestCase):
         self.assertGreater(several, 20)
 
     def test_mended_books(self):
-        book = Book(Hand("store", "put", "done", span=1), Reader("eye", "read", span=0), Sweep("sweep", "strike", span=0))
+        book = Book(Hand("store", "put", "done", span=1), Reader("eye", "read", span=0),
+                    Sweep("sweep", "strike", span=0))
         offered = [Waiting(2), Insert("sweep", 0, "stop if named"), Under("sweep", 0, "old"), Alone("sweep")]
         choice = least_cares(book, offered, most=400)
         self.assertEqual(choice.least, ((0, 1, 2),))
