@@ -2,6 +2,7 @@
 
 from strayfiles.books import NAMINGS, Book
 from strayfiles.calm import FAULTS, are_asks
+from strayfiles.copies import copied
 from strayfiles.errors import BadAsks, BadCare, TooMany
 from strayfiles.handlers import MOST_PER_HANDLER, Hand, Reader, Sweep
 from strayfiles.judging import judge
@@ -101,9 +102,9 @@ class Insert(Care):
     """A new statement comes before that at an index."""
 
     def __init__(self, name, at, text):
-        self.name = name
-        self.at = at
-        self.text = text
+        self.name = copied(name)
+        self.at = copied(at)
+        self.text = copied(text)
 
     def __eq__(self, other):
         return (isinstance(other, Insert) and self.name == other.name and self.at == other.at
@@ -123,9 +124,9 @@ class Under(Care):
     """The act at an index gets a condition."""
 
     def __init__(self, name, at, condition):
-        self.name = name
-        self.at = at
-        self.condition = condition
+        self.name = copied(name)
+        self.at = copied(at)
+        self.condition = copied(condition)
 
     def __eq__(self, other):
         return (isinstance(other, Under) and self.name == other.name and self.at == other.at
@@ -148,8 +149,8 @@ class Without(Care):
     """The statement at an index is left out."""
 
     def __init__(self, name, at):
-        self.name = name
-        self.at = at
+        self.name = copied(name)
+        self.at = copied(at)
 
     def __eq__(self, other):
         return isinstance(other, Without) and self.name == other.name and self.at == other.at
@@ -171,7 +172,7 @@ class Alone(Care):
     """A sweep is called alone."""
 
     def __init__(self, name):
-        self.name = name
+        self.name = copied(name)
 
     def __eq__(self, other):
         return isinstance(other, Alone) and self.name == other.name
@@ -195,7 +196,7 @@ class Waiting(Care):
     """The book has another age."""
 
     def __init__(self, age):
-        self.age = age
+        self.age = copied(age)
 
     def __eq__(self, other):
         return isinstance(other, Waiting) and self.age == other.age
@@ -217,7 +218,7 @@ class Naming(Care):
     """The book has other names."""
 
     def __init__(self, names):
-        self.names = names
+        self.names = copied(names)
 
     def __eq__(self, other):
         return isinstance(other, Naming) and self.names == other.names

@@ -1,5 +1,6 @@
 """Events without a clock, and what times of any size must be like so that they can happen."""
 
+from strayfiles.copies import copied
 from strayfiles.deeds import age_to_read, carried_out, rightly
 from strayfiles.errors import BadEvent
 from strayfiles.order import ascending
@@ -13,9 +14,9 @@ class Times:
     """An age, an off and spans for some handlers, each of any size."""
 
     def __init__(self, age, off, **spans):
-        self.age = age
-        self.off = off
-        self._spans = dict(spans)
+        self.age = copied(age)
+        self.off = copied(off)
+        self._spans = copied(spans)
 
     def span_of(self, name):
         """The span of the handlers of this name, or None."""

@@ -15,6 +15,7 @@ from strayfiles.judging import Verdict, judge
 from strayfiles.lives import is_life, longest
 from strayfiles.looker import is_certificate
 from strayfiles.moves import reached
+from strayfiles.times import Span
 from tests.samples import OWN, STORE, any_values, likely_book
 from tests.test_judging import BAD_ASKS
 
@@ -30,6 +31,12 @@ ALL = [
     (Waiting(4), "Waiting(4)"),
     (Naming("own"), "Naming('own')"),
 ]
+
+
+def all_with(thing):
+    """One care of each class with this value as each of its fields."""
+    return [Insert(thing, thing, thing), Under(thing, thing, thing), Without(thing, thing), Alone(thing),
+            Waiting(thing), Naming(thing)]
 
 
 def with_statements(name, *texts):
@@ -54,11 +61,33 @@ class TestCares(unittest.TestCase):
         self.assertEqual(vars(Waiting(age=3)), {"age": 3})
         self.assertEqual(vars(Naming(names="own")), {"names": "own"})
         for thing in any_values():
-            care = Insert(thing, thing, thing)
-            self.assertTrue(care.name is thing and care.at is thing and care.text is thing)
-            self.assertIs(Under(thing, thing, thing).condition, thing)
-            self.assertIs(Waiting(thing).age, thing)
-            self.assertIs(Naming(thing).names, thing)
+            for care in all_with(thing):
+                for field in vars(care).values():
+                    self.assertEqual((field, repr(field)), (thing, repr(thing)))
+
+    def test_later_changes_to_what_was_passed(self):
+        inner, deep, span = ["a"], [2], Span(3)
+        some = [inner, (1, [deep]), span, {"b": inner}]
+        cares = all_with(some) + all_with((some,))
+        texts = [repr(care) for care in cares]
+        same = all_with([["a"], (1, [[2]]), Span(3), {"b": ["a"]}])
+        inner.append("b")
+        deep.clear()
+        span.ticks = 4
+        some.append("c")
+        self.assertEqual([repr(care) for care in cares], texts)
+        self.assertEqual(cares[:len(same)], same)
+        for care in same:
+            for field in vars(care).values():
+                self.assertEqual(repr(field), "[['a'], (1, [[2]]), Span(3), {'b': ['a']}]")
+
+    def test_fields_share_nothing(self):
+        some = [[]]
+        for care in all_with(some):
+            first, *others = vars(care).values()
+            first[0].append(1)
+            for field in others + [some]:
+                self.assertEqual(field, [[]])
 
     def test_classes(self):
         for care, _ in ALL:

@@ -70,6 +70,36 @@ class TestTimes(unittest.TestCase):
         spans["alpha"] = Span(7)
         self.assertEqual(times.span_of("alpha"), Span(1))
 
+    def test_later_changes_to_the_spans(self):
+        passed = [Span(3), Span(0), Span(1), Span(HUGE)]
+        times = Times(passed[0], passed[1], alpha=passed[2], beta=passed[3])
+        for span in passed:
+            span.ticks = 7
+        self.assertEqual((times.age, times.off), (Span(3), Span(0)))
+        self.assertEqual((times.span_of("alpha"), times.span_of("beta")), (Span(1), Span(HUGE)))
+
+    def test_one_span_for_all(self):
+        span = Span(4)
+        times = Times(span, span, alpha=span, beta=span)
+        times.age.ticks = 5
+        times.off.ticks = 6
+        times.span_of("alpha").ticks = 7
+        self.assertEqual((times.span_of("beta"), span), (Span(4), Span(4)))
+
+    def test_answers_after_later_changes(self):
+        for seed in range(20):
+            book, events = random_events(seed)
+            passed = {name: Span(seed + at) for at, name in enumerate(["age", "off"] + [one.name for one in book])}
+            times = Times(**passed)
+            answers = []
+            for _ in range(2):
+                table = timetable(book, events, times)
+                answers.append((bounds(book, events, times), table.moments, table.ring,
+                                possible_ages(book, events, times)))
+                for span in passed.values():
+                    span.ticks += 5
+            self.assertEqual(*answers)
+
 
 class TestUntimed(unittest.TestCase):
     def test_readings(self):
